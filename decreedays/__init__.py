@@ -1,0 +1,1 @@
+"""decreedays: calendars changed by decrees."""

@@ -1,0 +1,99 @@
+"""Values that the tests share: the document's examples, values of all kinds, and ways to spoil a value."""
+
+R = ((("a", 3), ("b", 2)),)
+L = ((("a", 3), ("b", 2)), (("a", 3), ("b", 3)))
+J = ("jump", 0, (1, "b", 2), (3, "a", 2))
+S = ("restore", 2, (3, "b", 1))
+N = ("rename", 0, (2, "a", 1), "a", "c")
+E = ("rule", 4, (2, "b", 1), L, (3, "b", 3))
+
+# Years that have no month, no number of days and no name of a month in common.
+ODD = (
+    (("x", 1),),
+    (("b", 60), ("a", 1), ("x", 2)),
+    (("a", 7), ("abcdefgh", 31), ("z", 59)),
+)
+# The longest rule that there may be: each of its twenty years is unlike the others.
+LONGEST = tuple(
+    tuple((letter * 8, 60 - (year * place) % 59) for place, letter in enumerate("abcdefghijklm"))
+    for year in range(1, 21)
+)
+SMALLEST = ((("a", 1),),)
+RULES = (R, L, ODD, LONGEST, SMALLEST, R + L, L + ODD + L)
+
+SIXTY_DIGITS = 10 ** 60 - 1
+LARGE = (
+    10 ** 59, SIXTY_DIGITS, 123456789012345678901234567890123456789012345678901234567890,
+    -(10 ** 59), -SIXTY_DIGITS, -(10 ** 59) - 7,
+)
+
+
+def nested(depth):
+    """Return a list and a tuple in turn, so many deep."""
+    thing = 1
+    for level in range(depth):
+        thing = [thing] if level % 2 else (thing,)
+    return thing
+
+
+# Values of all kinds of which none is a rule, a date, a decree, a month, a year, a day or a name.
+STRANGE = (
+    None, True, False, -1, -SIXTY_DIGITS, "", " ", "A", "a1", "a b", "abcdefghi", "~", "a" * 4000, "{", "`",
+    (), [], ((),), [[]], ([],), (None,), ("a",), [("a", 1)], (True, True), ("a", True), ("a", 0), ("a", 61),
+    (1, "a", 0), (1, "a", 61), (1, "a", True), (True, "a", 1), (1, 1, "a"), [1, "a", 1], (1, "a", 1, 1), (1, "a"),
+    [["a", 3]], ((["a", 3],),), ([("a", 3)],), [(("a", 3),)], ((("a", 3), ("a", 2)),), (("a", "a"),),
+    ("restore",), ("restore", 0), ["restore", 0, (1, "a", 1)], (["restore"], 0, (1, "a", 1)),
+    nested(10), (1,) * 2000, [[0] * 40] * 40, "rule 0 1 a 1",
+)
+# Single values that fit in some places and not in others.
+PIECES = STRANGE + (
+    0, 1, 2, 14, 21, 60, 61, SIXTY_DIGITS, "a", "b", "abcdefgh", "rule", "jump", "rename", "restore",
+    ("a", 3), ("b", 60), (1, "a", 1), (-1, "b", 2), R, L, R[0],
+)
+
+
+def spoiled(thing):
+    """Yield the thing with one part of it, at any depth, replaced, left out, doubled, put in or made a list."""
+    yield from PIECES
+    if isinstance(thing, (tuple, list)):
+        yield list(thing)
+        yield tuple(thing)
+        for place in range(len(thing)):
+            before, part, behind = thing[:place], thing[place], thing[place + 1:]
+            yield before + behind
+            yield before + (part, part) + behind
+            for piece in PIECES:
+                yield before + (piece, part) + behind
+            for other in spoiled(part):
+                yield before + (other,) + behind
+        for piece in PIECES:
+            yield thing + (piece,)
+
+
+def next_date(rule, date):
+    """Return the day after a date, as [5] tells it."""
+    year, month, day = date
+    months = rule[year % len(rule)]
+    place = [name for name, days in months].index(month)
+    if day < months[place][1]:
+        return (year, month, day + 1)
+    if place + 1 < len(months):
+        return (year, months[place + 1][0], 1)
+    return (year + 1, rule[(year + 1) % len(rule)][0][0], 1)
+
+
+def date_before(rule, date):
+    """Return the date whose day after is this one."""
+    year, month, day = date
+    months = rule[year % len(rule)]
+    place = [name for name, days in months].index(month)
+    if day > 1:
+        return (year, month, day - 1)
+    if place > 0:
+        return (year, *months[place - 1])
+    return (year - 1, *rule[(year - 1) % len(rule)][-1])
+
+
+def round_days(rule):
+    """Return how many days a round of the rule has."""
+    return sum(days for months in rule for name, days in months)

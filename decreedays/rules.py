@@ -47,8 +47,11 @@ def has_date(rule, date):
     """Return whether any value is a date of the rule."""
     if not is_rule(rule):
         raise NoRule(rule)
-    if not is_date(date):
-        return False
+    return is_date(date) and includes(rule, date)
+
+
+def includes(rule, date):
+    """Return whether a date, of whatever rule, is one of this rule."""
     year, month, day = date
     months = rule[year % len(rule)]
     return any([name == month and day <= days for name, days in months])
@@ -58,6 +61,11 @@ def number_of(rule, date):
     """Return the number of a date of the rule."""
     if not has_date(rule, date):
         raise NoDate(date)
+    return count_days_before(rule, date)
+
+
+def count_days_before(rule, date):
+    """Return the number of a date that the rule includes."""
     year, month, day = date
     rounds, index = divmod(year, len(rule))
     months = rule[index]
@@ -70,6 +78,11 @@ def date_at(rule, number):
     """Return the date of the rule with this number."""
     if not is_rule(rule):
         raise NoRule(rule)
+    return date_behind(rule, number)
+
+
+def date_behind(rule, number):
+    """Return the date that so many days come before, counted from the first day of year 0."""
     rounds, rest = divmod(number, count_days_of_years(rule))
     index, rest = find_part([count_days_of_months(months) for months in rule], rest)
     months = rule[index]

@@ -51,6 +51,15 @@ PIECES = STRANGE + (
     ("a", 3), ("b", 60), (1, "a", 1), (-1, "b", 2), R, L, R[0],
 )
 
+# Words that fit into some places of a text and not into others, and signs likewise.
+WORDS = (
+    "", "/", "//", "0", "1", "-1", "-0", "+1", "01", "00", "60", "61", "-", "9" * 50, "-" + "9" * 50, "1.0", "1_0",
+    "a", "b", "abcdefgh", "abcdefghi", "A", "a1", "a-b", "a:3", "b:60", "b:61", "a:0", "a:03", "a:-1", "a:+1", "a:",
+    ":3", "a:3:4", "a:b", "A:3", "abcdefghi:3", "3:a", "a:3/", "a: 3", "rule", "jump", "rename", "restore", "Rule",
+    "rules", "record", "withdraw", ";", "a;", "True", "None", "~",
+)
+SIGNS = " -+/:;_.0169abzA~"
+
 
 def spoiled(thing):
     """Yield the thing with one part of it, at any depth, replaced, left out, doubled, put in or made a list."""
@@ -97,3 +106,34 @@ def date_before(rule, date):
 def round_days(rule):
     """Return how many days a round of the rule has."""
     return sum(days for months in rule for name, days in months)
+
+
+def number(digits):
+    """Return the number of decimal digits, one after another."""
+    value = 0
+    for digit in digits:
+        value = value * 10 + "0123456789".index(digit)
+    return value
+
+
+def rewritten(text, between, others):
+    """Yield the text with one part left out, doubled, replaced by another, put in, or two of them exchanged."""
+    parts = text.split(between)
+    for place, part in enumerate(parts):
+        before, behind = parts[:place], parts[place + 1:]
+        found = [[], [part, part]]
+        for other in others:
+            found += [[other], [other, part], [part, other]]
+        for new in found:
+            yield between.join(before + new + behind)
+        for other in range(place):
+            yield between.join(parts[:other] + [part] + parts[other + 1:place] + [parts[other]] + behind)
+
+
+def mistyped(text):
+    """Yield the text with one sign left out, replaced by another or put in."""
+    for place in range(len(text)):
+        yield text[:place] + text[place + 1:]
+        for sign in SIGNS:
+            yield text[:place] + sign + text[place + 1:]
+            yield text[:place] + sign + text[place:]

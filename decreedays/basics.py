@@ -13,6 +13,11 @@ def is_day(thing):
     return is_int(thing) and thing >= 0
 
 
+def is_count(thing):
+    """Return whether any value is an integer from 0, such as a number of months."""
+    return is_int(thing) and thing >= 0
+
+
 def is_name(thing):
     """Return whether any value is a name."""
     if not isinstance(thing, str) or len(thing) > LONGEST_NAME:

@@ -112,6 +112,12 @@ class Book:
         return book
 
 
+def is_standing(book, thing):
+    """Return whether any value is a standing decree of the book."""
+    # True is no integer in a decree, although it is equal to 1.
+    return is_decree(thing) and thing in book.standing
+
+
 def check_decrees(things):
     """Raise NoDecree with the first of any values that is not a decree."""
     for thing in things:

@@ -14,7 +14,7 @@ def date_on(book, day):
     """Return the date of a day."""
     if not is_day(day):
         raise NoDay(day)
-    return given_date(calendar_on(reigns(book), day), day)
+    return date_under(reigns_of(book), day)
 
 
 def stack_on(book, day):
@@ -28,35 +28,55 @@ def stack_on(book, day):
 
 def stretches(book):
     """Return the list of all stretches, each as its first day and its last one, or None for the last stretch."""
-    days = [first for first, calendar in reigns(book)]
-    ends = [first - 1 for first in days[1:]] + [None]
-    return list(zip(days, ends))
+    return [(first, last) for first, last, calendar in reigns_of(book)]
 
 
 def walk(book, *, since=0):
     """Yield each day from a day on, together with its date, without an end."""
     if not is_day(since):
         raise NoDay(since)
-    calendars = reigns(book)
+    reigns = reigns_of(book)
     day = since
     while True:
-        yield (day, given_date(calendar_on(calendars, day), day))
+        yield (day, date_under(reigns, day))
         day += 1
 
 
-def reigns(book):
-    """Return for each stretch, in order, its first day and the calendar that is in force in it."""
+def reigns_of(book):
+    """Return for each stretch, in order, its first day, its last one or None, and the calendar in force in it."""
     calendars = {0: first_calendar(book)}
     for event, stack in trace(book):
         is_effective = event[4]
         if is_effective:
             calendars[event[0]] = stack[-1]
-    return list(calendars.items())
+    return [(first, last, calendars[first]) for first, last in spans_from(list(calendars))]
 
 
-def calendar_on(calendars, day):
-    """Return the calendar in force at the end of a day, among those of the stretches and their first days."""
-    return [calendar for first, calendar in calendars if first <= day][-1]
+def spans_from(firsts):
+    """Return the spans of days from each of these days up to the day before the next one; the last one has no end."""
+    lasts = [first - 1 for first in firsts[1:]] + [None]
+    return list(zip(firsts, lasts))
+
+
+def reign_on(reigns, day):
+    """Return the first and last day of the stretch that has a day, and its calendar."""
+    return [reign for reign in reigns if reign[0] <= day][-1]
+
+
+def date_under(reigns, day):
+    """Return the date of a day."""
+    return given_date(reign_on(reigns, day)[2], day)
+
+
+def reigns_between(reigns, first, last):
+    """Return the parts of the reigns from a day to another one, each with its first day, last day and calendar."""
+    parts = []
+    for begin, end, calendar in reigns:
+        start = max(begin, first)
+        stop = last if end is None else min(end, last)
+        if start <= stop:
+            parts.append((start, stop, calendar))
+    return parts
 
 
 def trace(book):

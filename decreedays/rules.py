@@ -90,6 +90,37 @@ def date_behind(rule, number):
     return (rounds * len(rule) + index, months[place][0], rest + 1)
 
 
+def count_months_before(rule, date):
+    """Return how many months come before the month of a date, counted from the first month of year 0."""
+    year, month, day = date
+    rounds, index = divmod(year, len(rule))
+    names = [name for name, days in rule[index]]
+    return rounds * count_months_of_years(rule) + count_months_of_years(rule[:index]) + names.index(month)
+
+
+def month_behind(rule, number):
+    """Return the year, the name and the days of the month that so many months come before."""
+    rounds, rest = divmod(number, count_months_of_years(rule))
+    index, place = find_part([len(months) for months in rule], rest)
+    name, days = rule[index][place]
+    return (rounds * len(rule) + index, name, days)
+
+
+def count_days_named(rule, name, number):
+    """Return how many days of months of this name come before the date with a number, counted from year 0.
+
+    For a negative number, this is minus the number of such days from this date up to year 0.
+    """
+    rounds, rest = divmod(number, count_days_of_years(rule))
+    many = 0
+    for months in rule:
+        for other, days in months:
+            if other == name:
+                many += rounds * days + min(days, max(rest, 0))
+            rest -= days
+    return many
+
+
 def least_rule(rule):
     """Return the equivalent rule with the fewest years in its round."""
     if not is_rule(rule):
@@ -110,13 +141,18 @@ def count_days_of_years(years):
     return sum([count_days_of_months(months) for months in years])
 
 
-def find_part(lengths, days):
-    """Return the index of the part that comes after so many days, and how many of these are in it.
+def count_months_of_years(years):
+    """Return how many months these years have together."""
+    return sum([len(months) for months in years])
 
-    The parts have these lengths, and more days together than the given number.
+
+def find_part(lengths, rest):
+    """Return the index of the part that comes after so many days or months, and how many of these are in it.
+
+    The parts have these lengths, together more than the given number.
     """
     index = 0
-    while days >= lengths[index]:
-        days -= lengths[index]
+    while rest >= lengths[index]:
+        rest -= lengths[index]
         index += 1
-    return index, days
+    return index, rest

@@ -1,5 +1,6 @@
 """The course of events as [10] and [11] tell it, gone through day by day, for comparison."""
 
+from decreedays.book import Book
 from tests import reference
 from tests.samples import next_date, round_days
 
@@ -42,6 +43,8 @@ class Walker:
         # Rules with a date that they give to some day, and this day.
         self.stack = [(book.first_rule, book.first_date, 0)]
         self.events = []
+        # For each event the day, the decree, and the rule and the present date directly before.
+        self.moments = []
         self.use_decrees()
 
     def present(self):
@@ -64,6 +67,7 @@ class Walker:
                 return
             decree = sorted((decree[1], decree) for decree in usable)[-1][1]
             self.unused.remove(decree)
+            self.moments.append((self.day, decree, self.stack[-1][0], present))
             is_effective = self.use(decree, present)
             self.events.append((self.day, decree, present, self.present(), is_effective))
 
@@ -119,3 +123,74 @@ def expected_stretches(happened):
     """Return the stretches that these events make."""
     firsts = sorted({0} | {event[0] for event in happened if event[4]})
     return [(first, behind - 1) for first, behind in zip(firsts, firsts[1:])] + [(firsts[-1], None)]
+
+
+def days_until(rule, present, date):
+    """Return how many days after the present date a calendar of the rule gives another date, or None."""
+    if not reference.date_of(rule, date):
+        return None
+    rounds = max(0, (date[0] - present[0]) // len(rule) - 1)
+    present = (present[0] + rounds * len(rule), *present[1:])
+    days = rounds * round_days(rule)
+    while present != date and present[0] <= date[0]:
+        present = next_date(rule, present)
+        days += 1
+    return days if present == date else None
+
+
+def expected_reigns(book):
+    """Return the stretches with the rule in force in each, and the date of its first day."""
+    walker = Walker(book)
+    walker.go_to_the_end()
+    found = []
+    again = Walker(book)
+    for first, last in expected_stretches(walker.events):
+        again.go_to(first)
+        found.append((first, last, again.stack[-1][0], again.present()))
+    return found
+
+
+def expected_days(book, date):
+    """Return the days of a date."""
+    found = []
+    for first, last, rule, start in expected_reigns(book):
+        days = days_until(rule, start, date)
+        if days is not None and (last is None or first + days <= last):
+            found.append(first + days)
+    return found
+
+
+def expected_fate(walker, decree):
+    """Return what becomes of a decree, when all events have happened."""
+    for event in walker.events:
+        if event[1] == decree:
+            return ("effective" if event[4] else "void", event[0])
+    cause = None
+    for day, used, rule, present in walker.moments:
+        days = days_until(rule, present, decree[2])
+        if days is not None and day + days >= decree[1]:
+            cause = used
+    return ("lost", cause)
+
+
+def without(book, decree):
+    """Return a book made anew without a decree."""
+    standing = [other for other in book.standing if other != decree]
+    return Book(book.first_rule, book.first_date, *standing)
+
+
+def expected_date(book, day):
+    """Return the date of a day."""
+    walker = Walker(book)
+    walker.go_to(day)
+    return walker.present()
+
+
+def first_dates(book, many):
+    """Return the dates of the first days."""
+    walker = Walker(book)
+    dates = [walker.present()]
+    while len(dates) < many:
+        walker.step()
+        dates.append(walker.present())
+    return dates

@@ -2,15 +2,19 @@
 
 import inspect
 
-from decreedays import book, course, decrees, rules, texts
+from decreedays import book, course, days, decrees, months, registry, rules, texts
 from decreedays.book import Book
 from decreedays.course import date_on, events, stack_on, stretches, walk
+from decreedays.days import days_of, fate, needed, next_day
 from decreedays.decrees import is_decree
 from decreedays.errors import NoDate, NoDay
+from decreedays.months import count_days, count_runs, later, month_runs, run_of
 from decreedays.rules import date_at, has_date, is_date, is_rule, least_rule, number_of
 from decreedays.texts import read_date, read_decree, read_rule, show_date, show_decree, show_rule
 from tests.case import Case
 from tests.samples import J, L, N, R, S
+
+D = (1, "a", 1)
 
 SIGNATURES = {
     rules: {
@@ -22,15 +26,39 @@ SIGNATURES = {
         "events": "(book)", "date_on": "(book, day)", "stack_on": "(book, day)", "stretches": "(book)",
         "walk": "(book, *, since=0)",
     },
+    days: {
+        "days_of": "(book, date)", "next_day": "(book, date, *, since=0)", "fate": "(book, decree)",
+        "needed": "(book, day)",
+    },
+    months: {
+        "run_of": "(book, day)", "later": "(book, day, *, months=1)", "month_runs": "(book, *, since=0)",
+        "count_runs": "(book, first, last)", "count_days": "(book, month, first, last)",
+    },
     texts: {
         "show_rule": "(rule)", "show_date": "(date)", "show_decree": "(decree)",
         "read_rule": "(text)", "read_date": "(text)", "read_decree": "(text)",
     },
 }
-BOOK_METHODS = {
-    "record": "(self, *decrees)", "withdraw": "(self, *decrees)", "merged": "(self, *others)", "copy": "(self)",
+REGISTRY_METHODS = {
+    "set_today": "(self, day)", "date_today": "(self)", "add": "(self, name, contract)",
+    "add_all": "(self, **contracts)", "cancel": "(self, name)", "day_of": "(self, name)",
+    "contract_of": "(self, name)", "names": "(self)", "record": "(self, *decrees)", "withdraw": "(self, *decrees)",
+    "merge": "(self, *books)", "book": "(self)", "__len__": "(self)", "__init__": "(self, rule, start)",
 }
-BOOK_PROPERTIES = ("first_rule", "first_date", "recorded", "withdrawn", "standing")
+# The methods, the class methods and the properties of each class.
+CLASSES = {
+    (book, "Book"): (
+        {
+            "record": "(self, *decrees)", "withdraw": "(self, *decrees)", "merged": "(self, *others)",
+            "copy": "(self)", "__eq__": "(self, other)", "__len__": "(self)", "__repr__": "(self)",
+            "__str__": "(self)", "__init__": "(self, rule, start, *recorded, withdrawn=())",
+        },
+        {"read": "(text)"},
+        ("first_rule", "first_date", "recorded", "withdrawn", "standing"),
+    ),
+    (registry, "Registry"): (REGISTRY_METHODS, {"of": "(book)"}, ("today", "due")),
+    (registry, "Journal"): ({"__init__": "(self, rule, start)", "total": "(self)"}, {"of": "(book)"}, ("entries",)),
+}
 
 
 class InterfaceTest(Case):
@@ -47,20 +75,25 @@ class InterfaceTest(Case):
                 with self.subTest(name):
                     self.assertEqual(str(inspect.signature(getattr(module, name))), parameters)
 
-    def test_the_class_of_books(self):
-        self.assertEqual([Book.__module__, Book.LIMIT], [book.__name__, 30])
-        self.assertEqual(str(inspect.signature(Book)), "(rule, start, *recorded, withdrawn=())")
-        for name, parameters in BOOK_METHODS.items():
-            with self.subTest(name):
-                self.assertTrue(inspect.isfunction(vars(Book)[name]))
-                self.assertEqual(str(inspect.signature(vars(Book)[name])), parameters)
-        for name in BOOK_PROPERTIES:
-            with self.subTest(name):
-                self.assertIsInstance(vars(Book)[name], property)
-        self.assertIsInstance(vars(Book)["read"], classmethod)
-        self.assertEqual(str(inspect.signature(Book.read)), "(text)")
-        for name in ("__eq__", "__len__", "__repr__", "__str__"):
-            self.assertTrue(name in vars(Book))
+    def test_classes(self):
+        for (module, name), (methods, class_methods, properties) in CLASSES.items():
+            found = vars(module)[name]
+            self.assertEqual(found.__module__, module.__name__)
+            for method, parameters in methods.items():
+                with self.subTest(f"{name}.{method}"):
+                    self.assertTrue(inspect.isfunction(vars(found)[method]))
+                    self.assertEqual(str(inspect.signature(vars(found)[method])), parameters)
+            for method, parameters in class_methods.items():
+                with self.subTest(f"{name}.{method}"):
+                    self.assertIsInstance(vars(found)[method], classmethod)
+                    self.assertEqual(str(inspect.signature(getattr(found, method))), parameters)
+            for method in properties:
+                with self.subTest(f"{name}.{method}"):
+                    self.assertIsInstance(vars(found)[method], property)
+
+    def test_limits_and_bases(self):
+        self.assertEqual([Book.LIMIT, registry.Registry.LIMIT, registry.Journal.LIMIT], [30, 40, 40])
+        self.assertEqual(registry.Journal.__bases__, (registry.Registry,))
 
     def test_arguments_by_the_parameter_names(self):
         date = (3, "b", 3)
@@ -78,6 +111,12 @@ class InterfaceTest(Case):
         self.assertEqual([date_on(day=5, book=one), date_on(one, day=5)], [(2, "a", 1)] * 2)
         self.assertEqual([stack_on(day=5, book=one), stack_on(one, day=5)], [[(R, (2, "a", 1))]] * 2)
         self.assertEqual(next(walk(since=5, book=one)), (5, (2, "a", 1)))
+        self.assertEqual([days_of(date=D, book=one), next_day(since=0, date=D, book=one)], [[0], 0])
+        self.assertEqual([fate(decree=J, book=Book(R, D, J)), needed(day=5, book=one)], [("effective", 4), []])
+        self.assertEqual([run_of(day=5, book=one), later(months=1, day=5, book=one)], [(5, 7), 8])
+        self.assertEqual(next(month_runs(since=5, book=one)), (5, 7, 2, "a"))
+        self.assertEqual([count_runs(last=5, first=0, book=one), count_days(last=5, first=0, month="a", book=one)],
+                         [3, 4])
         self.assertEqual([show_rule(rule=R), show_date(date=date), show_decree(decree=S)],
                          ["a:3 b:2", "3 b 3", "restore 2 3 b 1"])
         self.assertEqual([read_rule(text="a:3 b:2"), read_date(text="3 b 3"), read_decree(text="restore 2 3 b 1")],

@@ -45,7 +45,7 @@ def is_integer_word(word):
     return word == "0" or not digits.startswith("0")
 
 
-def is_made_word(word):
+def is_count_word(word):
     """Return whether the word is an integer from 0."""
     return is_integer_word(word) and not word.startswith("-")
 
@@ -64,7 +64,7 @@ def is_month_word(word):
 def has_form(word, form):
     """Return whether the word has a form: `made`, `year`, `name` or `day`."""
     if form == "made":
-        return is_made_word(word)
+        return is_count_word(word)
     if form == "year":
         return is_integer_word(word)
     if form == "day":

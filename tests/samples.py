@@ -67,16 +67,17 @@ def spoiled(thing):
     if isinstance(thing, (tuple, list)):
         yield list(thing)
         yield tuple(thing)
+        kind = type(thing)
         for place in range(len(thing)):
             before, part, behind = thing[:place], thing[place], thing[place + 1:]
             yield before + behind
-            yield before + (part, part) + behind
+            yield kind([*before, part, part, *behind])
             for piece in PIECES:
-                yield before + (piece, part) + behind
+                yield kind([*before, piece, part, *behind])
             for other in spoiled(part):
-                yield before + (other,) + behind
+                yield kind([*before, other, *behind])
         for piece in PIECES:
-            yield thing + (piece,)
+            yield kind([*thing, piece])
 
 
 def next_date(rule, date):

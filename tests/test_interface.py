@@ -2,7 +2,9 @@
 
 import inspect
 
-from decreedays import book, course, days, decrees, months, registry, rules, texts
+from decreedays import (
+    book, certificates, checker, compare, course, days, decrees, desk, months, registry, rules, texts,
+)
 from decreedays.book import Book
 from decreedays.course import date_on, events, stack_on, stretches, walk
 from decreedays.days import days_of, fate, needed, next_day
@@ -34,6 +36,12 @@ SIGNATURES = {
         "run_of": "(book, day)", "later": "(book, day, *, months=1)", "month_runs": "(book, *, since=0)",
         "count_runs": "(book, first, last)", "count_days": "(book, month, first, last)",
     },
+    compare: {
+        "parted": "(*books)", "agree_from": "(*books)", "differing": "(one, other, *, last)",
+        "reach": "(book, decree)",
+    },
+    certificates: {"date_certificate": "(book, day)", "lost_certificate": "(book, decree)"},
+    checker: {"holds": "(book, thing)"},
     texts: {
         "show_rule": "(rule)", "show_date": "(date)", "show_decree": "(decree)",
         "read_rule": "(text)", "read_date": "(text)", "read_decree": "(text)",
@@ -58,6 +66,7 @@ CLASSES = {
     ),
     (registry, "Registry"): (REGISTRY_METHODS, {"of": "(book)"}, ("today", "due")),
     (registry, "Journal"): ({"__init__": "(self, rule, start)", "total": "(self)"}, {"of": "(book)"}, ("entries",)),
+    (desk, "Desk"): ({"__init__": "(self)", "say": "(self, command)"}, {}, ()),
 }
 
 
@@ -94,6 +103,10 @@ class InterfaceTest(Case):
     def test_limits_and_bases(self):
         self.assertEqual([Book.LIMIT, registry.Registry.LIMIT, registry.Journal.LIMIT], [30, 40, 40])
         self.assertEqual(registry.Journal.__bases__, (registry.Registry,))
+
+    def test_each_method_of_a_registry_is_one_of_a_journal(self):
+        for name in (*REGISTRY_METHODS, "of", "today", "due", "LIMIT"):
+            self.assertTrue(hasattr(registry.Journal, name))
 
     def test_arguments_by_the_parameter_names(self):
         date = (3, "b", 3)

@@ -21,12 +21,12 @@ def agreement_of(calendar, other):
     spans = []
     for month in months:
         if month in other_months:
-            begin, other_begin = months[month][0] - number, other_months[month][0] - other_number
-            days = min(months[month][1], other_months[month][1])
-            times = times_until_together(other_begin - begin, drift)
+            (first, days), (other_first, other_days) = months[month], other_months[month]
+            times = times_until_together((other_first - other_number) - (first - number), drift)
             if times is not None:
-                spans.append((begin + times * period, begin + times * period + days - 1))
-    return spans, period if drift == 0 else 0
+                begin = first - number + times * period
+                spans.append((begin, begin + min(days, other_days) - 1))
+    return (spans, period) if drift == 0 else (spans, 0)
 
 
 def months_of_years(rule, years):
@@ -41,15 +41,21 @@ def months_of_years(rule, years):
 
 
 def times_until_together(lead, drift):
-    """Return after how many times a drift, perhaps 0, a lead is made up for; None if this never happens."""
+    """Return after how many periods, any integer, a drift in each makes up for a lead; None if it never does.
+
+    The lead is the number of days by which one calendar is ahead of the other one in some month of the first years.
+    """
     if drift == 0:
         return 0 if lead == 0 else None
     return lead // drift if lead % drift == 0 else None
 
 
 def first_difference(agreement, first, last):
-    """Return the first day on which calendars differ, from one day to another one, which may be None, or None."""
-    spans, period = agreement
+    """Return the first day, from one day to another one, on which calendars differ, or None.
+
+    If there is no last day, it is None.
+    """
+    _, period = agreement
     end = last
     if period > 0 and (last is None or last - first >= period):
         # What does not differ within a period never differs.
@@ -63,8 +69,8 @@ def first_difference(agreement, first, last):
 
 
 def last_difference(agreement, first, last):
-    """Return the last day on which calendars differ, from one day to another one, or None."""
-    spans, period = agreement
+    """Return the last day, from one day to another one, on which calendars differ, or None."""
+    _, period = agreement
     start = max(first, last - period + 1) if period > 0 else first
     day = last
     for begin, stop in reversed(spans_between(agreement, start, last)):
@@ -75,7 +81,7 @@ def last_difference(agreement, first, last):
 
 
 def count_differences(agreement, first, last):
-    """Return on how many days from one to another one calendars differ."""
+    """Return on how many days, from one day to another one, calendars differ."""
     spans, period = agreement
     days = last - first + 1
     times, rest = divmod(days, period) if period > 0 else (0, days)
@@ -84,9 +90,9 @@ def count_differences(agreement, first, last):
 
 
 def spans_between(agreement, first, last):
-    """Return the sorted list of the spans from one day to another one, which may be None if there is no period.
+    """Return the sorted list of the spans of agreement, cut to the days from one day to another one.
 
-    There are not more days between them than a period has.
+    These are not more days than a period has. If there is no period, there need not be a last day.
     """
     spans, period = agreement
     if period > 0:

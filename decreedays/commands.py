@@ -80,7 +80,7 @@ def read_addition(words):
     else:
         day, months = read_numbers(rest, 2)
         contract = (kind, day, months)
-    # No other kinds, and a count from 1.
+    # The kind may be another one, and the count 0.
     if not is_name(name) or not is_contract(contract):
         raise NoCommand()
     return [name, contract]

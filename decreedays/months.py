@@ -90,9 +90,10 @@ def run_in(reign, number):
     begin, end, calendar = reign
     year, name, days = month_behind(calendar[0], number)
     month_begin = given_day(calendar, (year, name, 1))
+    month_end = month_begin + days - 1
     first = max(begin, month_begin)
-    last = month_begin + days - 1
-    return first, last if end is None else min(last, end), (year, name, 1 + first - month_begin)
+    last = month_end if end is None else min(month_end, end)
+    return first, last, (year, name, 1 + first - month_begin)
 
 
 def month_on(calendar, day):

@@ -110,20 +110,22 @@ class AnswersTest(DeskTest):
                          ["-", "-", "0", "rent"])
 
     def test_integers_of_any_length(self):
-        long = "9" * 1900
-        desk = Desk()
-        self.assertEqual(desk.say(f"found {long} a 1 a:1"), "ok")
-        self.assertEqual(desk.say("date 1"), "1" + "0" * 1900 + " a 1")
-        self.assertEqual(desk.say(f"later {long} {long}"), "1" + "9" * 1899 + "8")
-        self.assertEqual(desk.say(f"add rent month {long} 1"), "1" + "0" * 1900)
-        self.assertEqual(desk.say("day rent"), "1" + "0" * 1900)
-        self.assertEqual(desk.say(f"days 1{'0' * 1900} a 1"), "1")
-        decree = f"jump {long} 1{'0' * 1950} a 1 -{long} a 1"
-        self.assertEqual([desk.say(f"record {decree}"), desk.say("standing")], ["-", decree])
-        day = str(10 ** 1950 - 10 ** 1900 + 1)
-        self.assertEqual(desk.say("events"), f"{day} effective {decree}")
-        # Longer than what Python itself reads and writes.
-        self.assertEqual([desk.say(f"today 1{'0' * 6000}"), desk.say("names")], ["ok", "rent"])
+        # The last number of digits is more than Python itself reads and writes.
+        for digits in (60, 1900, 4400):
+            nines, power = "9" * digits, "1" + "0" * digits
+            desk = Desk()
+            decree = f"jump {nines} {power}{'0' * 50} a 1 -{nines} a 1"
+            # The date comes on this day, is replaced, and comes again.
+            day, again = "9" * 50 + "0" * (digits - 1) + "1", "2" + "0" * (digits + 50)
+            for command, answer in (
+                    (f"found {nines} a 1 a:1", "ok"), ("date 1", f"{power} a 1"), (f"days {power} a 1", "1"),
+                    (f"later {nines} {nines}", f"1{nines[1:]}8"), (f"add rent month {nines} 1", power),
+                    ("day rent", power), (f"add fair date 0 {power}{'0' * 50} a 1 1", day),
+                    (f"record {decree}", f"fair {day} {again}"), ("standing", decree),
+                    ("events", f"{day} effective {decree}"), (f"today {power}", "ok"), ("due", "rent"),
+                    (f"withdraw {decree}", f"fair {again} {day}"), (f"today {power}{power}", "ok"),
+                    ("names", "fair rent")):
+                self.assertEqual(desk.say(command), answer)
 
     def test_many_talks(self):
         rand, seen = random.Random(33), Counter()
